@@ -1,0 +1,1 @@
+"""Queryheld: identities of query languages, decided for all tables."""
