@@ -13,7 +13,10 @@ WORDS = (
 
 # Where the parts of a semantics stand in it.
 DUPLICATES = 0
+UNION = 1
+DIFFERENCE = 2
 NULLS = 3
+EMPTY = 4
 
 GREATEST_VALUE = 9
 ROW_LENGTH = 2
