@@ -68,10 +68,15 @@ def identities():
     return tuple(SIDES)
 
 
+def is_identity(value):
+    """Return whether value is the name of an identity."""
+    # Only a string is looked up: a list or a dict cannot be a key.
+    return isinstance(value, str) and value in SIDES
+
+
 def check_identity(value):
     """Raise BadIdentity if value is no name of an identity."""
-    # Only a string is looked up: a list or a dict cannot be a key.
-    if not isinstance(value, str) or value not in SIDES:
+    if not is_identity(value):
         raise BadIdentity("not an identity")
 
 

@@ -1,5 +1,6 @@
 """Values that are no semantics, no row, no table and no filter, for the tests of wrong inputs."""
 
+from queryheld.desks import Desk
 from queryheld.errors import BadTable, QueryError
 
 
@@ -51,6 +52,8 @@ STRANGE = (
     BadTable(0),
     (BadTable(0),),
     (QueryError("x"), BadTable(0)),
+    Desk(("bag", "sum", "count", "unknown", "null")),
+    (Desk(("set", "maximum", "kind", "none", "zero")),),
     nested((), lambda value: (value,), DEEP),
     nested([], lambda value: [value], DEEP),
     nested({}, lambda value: {0: value}, DEEP),
